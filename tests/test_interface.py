@@ -1,0 +1,89 @@
+"""The interface: each name is defined in the file under which it is listed, as it stands there."""
+
+import ast
+import os
+import unittest
+
+FOLDER = os.path.join(os.path.dirname(os.path.dirname(os.path.abspath(__file__))), "saidbetween")
+
+INTERFACE = {
+    "questions": [
+        "need_question(question)", "bit_at(row, place)", "parted(question, sign, yes, no)",
+        "can_be(question)", "first_unparted(question)", "turned(question)", "rising_signs(many)",
+        "all_signs(many)", "question_of(many, signs, values)", "lesser(question, yes, no)",
+    ],
+    "formulas": [
+        "need_formula(question, formula)", "value_of(question, formula, row)",
+        "first_wrong(question, formula)", "tells(question, formula)",
+        "depth_of(question, formula)", "leaves_of(question, formula)",
+        "layers_of(question, formula)", "negated(question, formula)",
+    ],
+    "wording": [],
+}
+
+
+def tree_of(name):
+    with open(os.path.join(FOLDER, name + ".py"), encoding="utf-8") as file:
+        return ast.parse(file.read())
+
+
+class InterfaceTest(unittest.TestCase):
+
+    def test_functions_stand_in_their_files(self):
+        for name, functions in INTERFACE.items():
+            found = [f"{node.name}({', '.join(arg.arg for arg in node.args.args)})"
+                     for node in tree_of(name).body if isinstance(node, ast.FunctionDef)]
+            for function in functions:
+                self.assertIn(function, found)
+
+    def test_no_function_has_defaults_or_stars(self):
+        for name in INTERFACE:
+            for node in ast.walk(tree_of(name)):
+                if isinstance(node, ast.FunctionDef):
+                    self.assertEqual((node.args.vararg, node.args.kwarg), (None, None))
+                    self.assertEqual((node.args.kwonlyargs, node.args.defaults), ([], []))
+
+
+class FormTest(unittest.TestCase):
+    """What the language of the program bounds and a glance can miss."""
+
+    def files(self):
+        for name in sorted(os.listdir(FOLDER)):
+            if name != "__pycache__":
+                self.assertTrue(name.endswith(".py"), name)
+                with open(os.path.join(FOLDER, name), encoding="utf-8") as file:
+                    yield name, file.read()
+
+    def test_sizes_and_characters(self):
+        for name, text in self.files():
+            lines = text.split("\n")
+            self.assertLessEqual(len(lines), 399, name)
+            self.assertLessEqual(max(len(line) for line in lines), 120, name)
+            self.assertTrue(all(sign == "\n" or " " <= sign <= "~" for sign in text), name)
+            for node in ast.walk(ast.parse(text)):
+                if isinstance(node, ast.FunctionDef):
+                    self.assertLessEqual(node.end_lineno - node.lineno + 1, 40, node.name)
+
+    def test_imports_name_the_file_that_defines(self):
+        for name, text in self.files():
+            imported = set()
+            for node in ast.walk(ast.parse(text)):
+                self.assertNotIsInstance(node, ast.Import, name)
+                if isinstance(node, ast.ImportFrom):
+                    self.assertTrue(node.module.startswith("saidbetween."), name)
+                    body = tree_of(node.module.split(".")[1]).body
+                    defined = {one.name for one in body if hasattr(one, "name")}
+                    defined |= {target.id for one in body if isinstance(one, ast.Assign)
+                                for target in one.targets}
+                    for alias in node.names:
+                        self.assertIn(alias.name, defined, name)
+                        imported.add(alias.name)
+            for node in ast.walk(ast.parse(text)):
+                if isinstance(node, ast.arg):
+                    self.assertNotIn(node.arg, imported, name)
+                if isinstance(node, ast.Name) and isinstance(node.ctx, ast.Store):
+                    self.assertNotIn(node.id, imported, name)
+
+
+if __name__ == "__main__":
+    unittest.main()
