@@ -28,17 +28,13 @@ def kind_of_formula(signs, thing):
     return WRONG
 
 
-def sign_rows(question):
-    """For each sign of the question the mask of all rows of which it is so."""
-    many, signs = question[:2]
-    return {
-        sign: sum([1 << row for row in range(1 << many) if is_so(sign, row)])
-        for sign in signs
-    }
+def sign_rows(signs, rows):
+    """For each sign the mask of those of the rows of which it is so."""
+    return {sign: sum([1 << row for row in rows if is_so(sign, row)]) for sign in signs}
 
 
 def formula_rows(masks, formula):
-    """The mask of all rows of which a checked formula is so, by those of the signs."""
+    """The mask of the rows of which a checked formula is so, by those of the signs."""
     if not is_branch(formula):
         return masks[formula]
     word, first, second = formula
@@ -51,16 +47,21 @@ def value_of(question, formula, row):
     """Whether a formula is so of a row."""
     need_formula(question, formula)
     need_row(question[0], row)
-    return (formula_rows(sign_rows(question), formula) >> row) & 1 == 1
+    return formula_rows(sign_rows(question[1], (row,)), formula) != 0
 
 
 def first_wrong(question, formula):
     """The first row of YES of which a formula is not so, else of NO of which it is, else None."""
     need_formula(question, formula)
-    yes, no = question[2:]
-    mask = formula_rows(sign_rows(question), formula)
-    wrong = [row for row in yes if not (mask >> row) & 1] + [row for row in no if (mask >> row) & 1]
-    return wrong[0] if wrong else None
+    signs, yes, no = question[1:]
+    mask = formula_rows(sign_rows(signs, yes + no), formula)
+    for row in yes:
+        if not (mask >> row) & 1:
+            return row
+    for row in no:
+        if (mask >> row) & 1:
+            return row
+    return None
 
 
 def tells(question, formula):

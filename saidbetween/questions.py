@@ -72,7 +72,7 @@ def first_unparted(question):
     for yes_row in yes:
         said_of = so_of(signs, yes_row)
         for no_row, lacking in unsaid:
-            if said_of & lacking == 0:
+            if (said_of & lacking) == 0:
                 return (yes_row, no_row)
     return None
 

@@ -3,6 +3,8 @@
 import itertools
 import unittest
 
+from saidbetween.errors import BadQuestion
+
 
 class Touchy:
     """Whatever is done with it, compared or asked, it raises."""
@@ -137,7 +139,7 @@ class Case(unittest.TestCase):
                 one[at] = value
                 self.refused(error, told, function, *one)
                 self.refused(error, told, function, **dict(zip(names, one)))
-                for later in range(at + 1, len(good)):
+                for later in range(at + 1, len(wrong)):
                     for other, _, _ in wrong[later]:
                         two = list(one)
                         two[later] = other
@@ -249,3 +251,58 @@ WRONG_QUESTIONS = [
     ((2, EXAMPLE[1], (), (0, 3)), (2,)),
     ((2, EXAMPLE[1], (1, 2), (0, 1)), (3,)),
 ]
+
+QUESTION_REFUSALS = [(value, BadQuestion, {"place": place}) for value, place in WRONG_QUESTIONS]
+
+# What is no lot of rows of two bits.
+WRONG_LOTS = [
+    None, [], [1, 2], {1}, 1, "", "12", (True,), (0, True), (1.0,), (4,), (-1,), (1, 1), (2, 1),
+    (0, 2, 1), ((1,),), ("1",), (None,), (1, Touchy()), (Touchy(), 1), (0, 1, 2, 3, 4), range(1, 3),
+]
+
+
+def is_branch(thing):
+    """Whether a formula, talk or tree has parts."""
+    return type(thing) is tuple and type(thing[0]) is str
+
+
+def things(whole):
+    """The paths to all things of a formula, talk or tree, in the order of the walk."""
+    out = [()]
+    if is_branch(whole):
+        for part in (len(whole) - 2, len(whole) - 1):
+            out += [(part,) + path for path in things(whole[part])]
+    return out
+
+
+def thing_at(whole, path):
+    for part in path:
+        whole = whole[part]
+    return whole
+
+
+def put(whole, path, thing):
+    """The whole with another thing at a path."""
+    if not path:
+        return thing
+    parts = list(whole)
+    parts[path[0]] = put(whole[path[0]], path[1:], thing)
+    return tuple(parts)
+
+
+def chain(depth, heads, side, inmost, other):
+    """What has this depth, all of whose branches lie in the first, or second, part of each.
+
+    `heads` has what stands ahead of the parts, from the inmost branch on, again and again.
+    """
+    for at in range(depth):
+        head = heads[at % len(heads)]
+        inmost = head + ((inmost, other) if side == 1 else (other, inmost))
+    return inmost
+
+
+def full(ends, head, end):
+    """What has so many ends, as shallow as can be."""
+    if ends == 1:
+        return end
+    return head + (full((ends + 1) // 2, head, end), full(ends // 2, head, end))

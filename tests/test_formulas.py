@@ -3,22 +3,21 @@
 import itertools
 import unittest
 
-from saidbetween.errors import BadFormula, BadParameter, BadQuestion, TooGreat
+from saidbetween.errors import BadFormula, BadParameter, TooGreat
 from saidbetween.formulas import (
     depth_of, first_wrong, layers_of, leaves_of, need_formula, negated, tells, value_of,
 )
 from saidbetween.questions import turned
 from tests.helpers import (
-    all_signs_of, Case, Dice, EXAMPLE, EXAMPLE_FORMULA, formula_is_so, small_questions, STRANGE,
-    thrown_formula, thrown_question, Touchy, WRONG_QUESTIONS,
+    all_signs_of, Case, chain, Dice, EXAMPLE, EXAMPLE_FORMULA, formula_is_so, full, put,
+    QUESTION_REFUSALS, small_questions, STRANGE, thing_at, things, thrown_formula,
+    thrown_question, Touchy,
 )
 
 SIGNS = EXAMPLE[1]
 SIGN = (0, 1)
 OTHER = (1, 0)
 FEW = (2, ((0, 1), (1, 0)), (1, 2), (0, 3))
-
-QUESTION_REFUSALS = [(value, BadQuestion, {"place": place}) for value, place in WRONG_QUESTIONS]
 
 WRONG_FORMULAS = [
     (None, ()), ((0, 2), ()), ((2, 0), ()), (("or", SIGN), ()), (["or", SIGN, SIGN], ()),
@@ -27,38 +26,14 @@ WRONG_FORMULAS = [
 FORMULA_REFUSALS = [(value, BadFormula, {"place": path}) for value, path in WRONG_FORMULAS]
 
 
-def chain(depth, side, inmost, other=SIGN, words=("or",)):
+def long_one(depth, side, inmost, other=SIGN, words=("or",)):
     """A formula of this depth, all of whose words lie in one part each."""
-    formula = inmost
-    for at in range(depth):
-        word = words[at % len(words)]
-        formula = (word, formula, other) if side == 1 else (word, other, formula)
-    return formula
+    return chain(depth, [(word,) for word in words], side, inmost, other)
 
 
-def full(leaves, word="or"):
+def wide_one(leaves):
     """A formula with so many leaves, as shallow as can be."""
-    if leaves == 1:
-        return SIGN
-    return (word, full((leaves + 1) // 2, word), full(leaves // 2, word))
-
-
-def things(formula):
-    """The paths to all things, in the order of the walk."""
-    out = [()]
-    if formula[0] in ("or", "and"):
-        for part in (1, 2):
-            out += [(part,) + path for path in things(formula[part])]
-    return out
-
-
-def put(formula, path, thing):
-    """The formula with another thing at a path."""
-    if not path:
-        return thing
-    parts = list(formula)
-    parts[path[0]] = put(formula[path[0]], path[1:], thing)
-    return tuple(parts)
+    return full(leaves, ("or",), SIGN)
 
 
 class NeedFormulaTest(Case):
@@ -110,13 +85,13 @@ class NeedFormulaTest(Case):
                     self.refused(BadFormula, {"place": path}, need_formula, EXAMPLE, two)
 
     def test_399_things_and_the_401st(self):
-        self.assertEqual(len(things(full(200))), 399)
-        self.assertIsNotNone(need_formula(EXAMPLE, full(200)))
-        self.refused(TooGreat, {"most": 400}, need_formula, EXAMPLE, full(201))
-        self.refused(TooGreat, {"most": 400}, need_formula, EXAMPLE, full(500))
+        self.assertEqual(len(things(wide_one(200))), 399)
+        self.assertIsNotNone(need_formula(EXAMPLE, wide_one(200)))
+        self.refused(TooGreat, {"most": 400}, need_formula, EXAMPLE, wide_one(201))
+        self.refused(TooGreat, {"most": 400}, need_formula, EXAMPLE, wide_one(500))
 
     def test_the_400th_thing_is_looked_at_and_the_401st_is_not(self):
-        formula = full(201)
+        formula = wide_one(201)
         paths = things(formula)
         self.assertEqual(len(paths), 401)
         for thing in [None, SIGN, (9, 9), ("or", None, None), Touchy(), ["or"]]:
@@ -127,7 +102,7 @@ class NeedFormulaTest(Case):
         self.refused(BadFormula, {"place": paths[0]}, need_formula, EXAMPLE,
                      put(put(formula, paths[399], None), paths[0], None))
         for place in (1, 200, 300, 398):
-            if len(formula_at(formula, paths[place])) == 2:
+            if len(thing_at(formula, paths[place])) == 2:
                 self.refused(BadFormula, {"place": paths[place]}, need_formula, EXAMPLE,
                              put(formula, paths[place], 0))
 
@@ -140,54 +115,48 @@ class NeedFormulaTest(Case):
     def test_depth_60_and_61(self):
         for side in (1, 2):
             for words in (("or",), ("and",), ("and", "or")):
-                good = chain(60, side, SIGN, words=words)
+                good = long_one(60, side, SIGN, words=words)
                 self.assertIs(need_formula(EXAMPLE, good), good)
                 self.assertEqual(depth_of(EXAMPLE, good), 60)
                 self.refused(TooGreat, {"most": 60}, need_formula, EXAMPLE,
-                             chain(61, side, SIGN, words=words))
+                             long_one(61, side, SIGN, words=words))
                 for inmost in (("or", None, None), ("and", SIGN, Touchy()), ("or", 1, [])):
                     self.refused(TooGreat, {"most": 60}, need_formula, EXAMPLE,
-                                 chain(60, side, inmost, words=words))
+                                 long_one(60, side, inmost, words=words))
 
     def test_wrong_things_in_the_depth_60(self):
         for side in (1, 2):
             for inmost in (None, (9, 9), ("or", SIGN), ("xor", SIGN, SIGN), ["or", SIGN, SIGN],
                            ("yes", (), SIGN, SIGN)):
                 self.refused(BadFormula, {"place": (side,) * 60}, need_formula, EXAMPLE,
-                             chain(60, side, inmost))
+                             long_one(60, side, inmost))
 
     def test_wrong_things_ahead_of_and_behind_what_is_too_deep(self):
-        deep = chain(61, 1, SIGN)
-        self.refused(TooGreat, {"most": 60}, need_formula, EXAMPLE, chain(60, 1, deep, other=None))
+        deep = long_one(61, 1, SIGN)
+        self.refused(TooGreat, {"most": 60}, need_formula, EXAMPLE, long_one(60, 1, deep, other=None))
         self.refused(BadFormula, {"place": (1,)}, need_formula, EXAMPLE, ("or", None, deep))
         self.refused(TooGreat, {"most": 60}, need_formula, EXAMPLE, ("or", deep, None))
         self.refused(BadFormula, {"place": (1,)}, need_formula, EXAMPLE,
-                     chain(61, 2, SIGN, other=None))
-        self.refused(TooGreat, {"most": 60}, need_formula, EXAMPLE, chain(5000, 1, None, other=None))
+                     long_one(61, 2, SIGN, other=None))
+        self.refused(TooGreat, {"most": 60}, need_formula, EXAMPLE, long_one(5000, 1, None, other=None))
 
     def test_too_many_ahead_of_too_deep_and_too_deep_ahead_of_too_many(self):
-        many = full(250)
-        deep = chain(61, 2, SIGN)
+        many = wide_one(250)
+        deep = long_one(61, 2, SIGN)
         self.refused(TooGreat, {"most": 400}, need_formula, EXAMPLE, ("or", many, deep))
         self.refused(TooGreat, {"most": 60}, need_formula, EXAMPLE, ("or", deep, many))
 
     def test_the_401st_thing_too_deep(self):
         # Where the first word with a path of 60 things is the 401st thing, this is told.
-        deep = chain(59, 2, ("or", SIGN, SIGN))
+        deep = long_one(59, 2, ("or", SIGN, SIGN))
         for leaves, most in ((139, 60), (140, 60), (141, 400)):
-            whole = ("or", full(leaves), deep)
+            whole = ("or", wide_one(leaves), deep)
             self.assertEqual(things(whole).index((2,) * 60), 2 * leaves + 118)
             self.refused(TooGreat, {"most": most}, need_formula, EXAMPLE, whole)
 
     def test_refused_in_order(self):
         self.check_calls(need_formula, ("question", "formula"), (EXAMPLE, EXAMPLE_FORMULA),
                          [QUESTION_REFUSALS, FORMULA_REFUSALS])
-
-
-def formula_at(formula, path):
-    for part in path:
-        formula = formula[part]
-    return formula
 
 
 class SayingTest(Case):
@@ -239,8 +208,8 @@ class SayingTest(Case):
             self.assertEqual(depth_of(question, formula), depth(formula))
             self.assertEqual(leaves_of(question, formula), leaves(formula))
             self.assertLessEqual(leaves(formula), 2 ** depth(formula))
-        self.assertEqual(leaves_of(EXAMPLE, full(200)), 200)
-        self.assertEqual(depth_of(EXAMPLE, full(128)), 7)
+        self.assertEqual(leaves_of(EXAMPLE, wide_one(200)), 200)
+        self.assertEqual(depth_of(EXAMPLE, wide_one(128)), 7)
 
     def test_layers(self):
         for formula, layers in (
@@ -258,11 +227,11 @@ class SayingTest(Case):
     def test_layers_of_long_rows(self):
         for side in (1, 2):
             for word in ("or", "and"):
-                self.assertEqual(layers_of(EXAMPLE, chain(60, side, SIGN, words=(word,))), 1)
-            self.assertEqual(layers_of(EXAMPLE, chain(60, side, SIGN, words=("or", "and"))), 60)
-            self.assertEqual(layers_of(EXAMPLE, chain(60, side, SIGN, words=("or", "or", "and"))),
+                self.assertEqual(layers_of(EXAMPLE, long_one(60, side, SIGN, words=(word,))), 1)
+            self.assertEqual(layers_of(EXAMPLE, long_one(60, side, SIGN, words=("or", "and"))), 60)
+            self.assertEqual(layers_of(EXAMPLE, long_one(60, side, SIGN, words=("or", "or", "and"))),
                              40)
-        self.assertEqual(layers_of(EXAMPLE, full(200)), 1)
+        self.assertEqual(layers_of(EXAMPLE, wide_one(200)), 1)
 
     def test_example(self):
         self.assertIs(tells(EXAMPLE, EXAMPLE_FORMULA), True)
@@ -300,7 +269,7 @@ class SayingTest(Case):
 
     def test_great_formulas(self):
         question = (8, all_signs_of(8), tuple(range(1, 256, 2)), tuple(range(0, 256, 2)))
-        formula = chain(59, 1, (0, 1), other=("or", (0, 1), (0, 1)), words=("or", "and"))
+        formula = long_one(59, 1, (0, 1), other=("or", (0, 1), (0, 1)), words=("or", "and"))
         self.assertIs(tells(question, formula), True)
         self.assertIs(value_of(question, formula, 255), True)
         self.assertIs(value_of(question, formula, 0), False)
@@ -310,15 +279,15 @@ class SayingTest(Case):
         for function in wholes:
             self.check_calls(function, ("question", "formula"), (EXAMPLE, EXAMPLE_FORMULA),
                              [QUESTION_REFUSALS, FORMULA_REFUSALS])
-            self.refused(TooGreat, {"most": 400}, function, EXAMPLE, full(201))
-            self.refused(TooGreat, {"most": 60}, function, EXAMPLE, chain(61, 1, SIGN))
+            self.refused(TooGreat, {"most": 400}, function, EXAMPLE, wide_one(201))
+            self.refused(TooGreat, {"most": 60}, function, EXAMPLE, long_one(61, 1, SIGN))
         rows = [-1, 4, True, False, 1.0, "1", None, (1,), Touchy(), 10 ** 40]
         self.check_calls(
             value_of, ("question", "formula", "row"), (EXAMPLE, EXAMPLE_FORMULA, 3),
             [QUESTION_REFUSALS, FORMULA_REFUSALS,
              [(row, BadParameter, {"value": row}) for row in rows]],
         )
-        self.refused(TooGreat, {"most": 400}, value_of, EXAMPLE, full(201), -1)
+        self.refused(TooGreat, {"most": 400}, value_of, EXAMPLE, wide_one(201), -1)
         self.assertIs(value_of((3, SIGNS, (1,), (0,)), (0, 1), 7), True)
         self.refused(BadParameter, {"value": 8}, value_of, (3, SIGNS, (1,), (0,)), (0, 1), 8)
 

@@ -19,6 +19,27 @@ INTERFACE = {
         "layers_of(question, formula)", "negated(question, formula)",
     ],
     "wording": [],
+    "texts": [
+        "question_text(question)", "read_question(text)", "formula_text(question, formula)",
+        "read_formula(question, text)", "talk_text(question, talk)", "read_talk(question, text)",
+        "tree_text(many, tree)", "read_tree(many, text)",
+    ],
+    "talks": [
+        "need_talk(question, talk)", "said(question, talk, yes, no)",
+        "first_failing(question, talk)", "is_talk(question, value)", "pairs_at(question, talk)",
+        "bits_of(question, talk)", "ends_of(question, talk)", "turns_of(question, talk)",
+        "is_lean(question, talk)",
+    ],
+    "turning": [
+        "talk_of(question, formula)", "formula_of(question, talk)", "lean_talk(question, talk)",
+        "lean_formula(question, formula)",
+    ],
+    "engine": [],
+    "asks": [
+        "need_tree(many, tree)", "asked(many, tree, row)", "asks_of(many, tree)",
+        "is_tree_for(many, values, value)", "least_asks(many, values)",
+        "is_cube_book(many, values, asks, value)",
+    ],
 }
 
 

@@ -9,13 +9,11 @@ from saidbetween.questions import (
     rising_signs, turned,
 )
 from tests.helpers import (
-    all_signs_of, Case, Dice, EXAMPLE, sign_is_so, small_questions, STRANGE, subsets,
-    thrown_question, Touchy, WRONG_QUESTIONS,
+    all_signs_of, Case, Dice, EXAMPLE, QUESTION_REFUSALS, sign_is_so, small_questions, STRANGE,
+    subsets, thrown_question, Touchy, WRONG_LOTS,
 )
 
 SIGNS = EXAMPLE[1]
-
-QUESTION_REFUSALS = [(value, BadQuestion, {"place": place}) for value, place in WRONG_QUESTIONS]
 
 # What is no SET of signs of two bits, and the first wrong place in it; None for no tuple.
 WRONG_SIGNS = [
@@ -25,12 +23,6 @@ WRONG_SIGNS = [
     (((-1, 0),), 0), (((2, 0),), 0), (([0, 1],), 0), (((0, 1, 0),), 0), (((0,),), 0), ((0, 1), 0),
     (((0, True),), 0), (((False, 1),), 0), (((0, 1.0),), 0), (((0.0, 1),), 0), (((0, "1"),), 0),
     (((0, 1), [1, 1]), 1), (((0, 1), None, (0, 0)), 1), (((0, 1), (1, Touchy())), 1), ((((),),), 0),
-]
-
-# What is no lot of rows of two bits.
-WRONG_LOTS = [
-    None, [], [1, 2], {1}, 1, "", "12", (True,), (0, True), (1.0,), (4,), (-1,), (1, 1), (2, 1),
-    (0, 2, 1), ((1,),), ("1",), (None,), (1, Touchy()), (Touchy(), 1), (0, 1, 2, 3, 4), range(1, 3),
 ]
 
 
