@@ -1,12 +1,12 @@
 """Trees of asks, and the fewest asks."""
 
 from saidbetween.errors import BadParameter, BadTree, TooGreat
-from saidbetween.kinds import is_integer, is_tuple, is_word, need_many, need_row, need_values
+from saidbetween.kinds import is_integer, is_set_of_entries, is_tuple, is_word
+from saidbetween.kinds import need_many, need_row, need_values
 from saidbetween.walks import BRANCH, depth, END, first_fault, is_branch, LABEL, WRONG
 
 MOST_TREES = 600
 MOST_ASKED_BITS = 6
-MOST_ENTRIES = 20000
 FREE = 2
 # Which values rows of a cube have: a mask, 1 for the value 0 and 2 for the value 1.
 BOTH_VALUES = 3
@@ -160,23 +160,11 @@ def is_cube_book(many, values, asks, value):
     need_values(many, values)
     if type(asks) is not int or asks < 0:
         raise BadParameter(asks)
-    if not is_set_of_entries(many, value):
+    if not is_set_of_entries(many, value, is_entry):
         return False
     if asks == 0:
         return len(value) == 0
     return any([entry[0] == asks - 1 for entry in value]) and all_stand(many, values, value)
-
-
-def is_set_of_entries(many, value):
-    """Whether a value is a SET of at most 20,000 pairs (ASKS, CUBE)."""
-    if type(value) is not tuple or len(value) > MOST_ENTRIES:
-        return False
-    last = ()
-    for entry in value:
-        if not is_entry(many, entry) or entry <= last:
-            return False
-        last = entry
-    return True
 
 
 def is_entry(many, thing):

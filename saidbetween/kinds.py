@@ -7,6 +7,7 @@ whatever else was handed in might do anything when it is compared.
 from saidbetween.errors import BadParameter, BadTable
 
 MOST_BITS = 8
+MOST_ENTRIES = 20000
 
 
 def is_integer(thing, low, high):
@@ -51,13 +52,30 @@ def is_row_in(rows, thing):
 
 def is_lot(many, thing):
     """Whether a thing is a lot of rows of so many bits."""
+    return is_set_of_numbers(1 << many, thing)
+
+
+def is_set_of_numbers(limit, thing):
+    """Whether a thing is a SET of integers from 0 to below the limit."""
     if type(thing) is not tuple:
         return False
     last = -1
-    for row in thing:
-        if not is_row(many, row) or row <= last:
+    for number in thing:
+        if not is_integer(number, last + 1, limit - 1):
             return False
-        last = row
+        last = number
+    return True
+
+
+def is_set_of_entries(about, thing, is_entry):
+    """Whether a thing is a SET of at most 20,000 entries, each told by is_entry(about, entry)."""
+    if type(thing) is not tuple or len(thing) > MOST_ENTRIES:
+        return False
+    last = ()
+    for entry in thing:
+        if not is_entry(about, entry) or entry <= last:
+            return False
+        last = entry
     return True
 
 

@@ -1,8 +1,10 @@
 """Questions: checked, parted, and made of others."""
 
-from saidbetween.errors import BadParameter, BadQuestion
+from saidbetween.errors import BadParameter, BadQuestion, NoTalk, TooGreat
 from saidbetween.kinds import first_wrong_sign, is_integer, is_lot, is_many, is_sign, is_tuple
 from saidbetween.kinds import MOST_BITS, need_many, need_signs, need_values
+
+MOST_ROWS = 12
 
 
 def need_question(question):
@@ -90,6 +92,21 @@ def not_so_of(signs, row):
 def can_be(question):
     """Whether each pair of the question is parted by a sign of it."""
     return first_unparted(question) is None
+
+
+def need_parted(question):
+    """A checked question in which each pair is parted by a sign."""
+    pair = first_unparted(question)
+    if pair is not None:
+        raise NoTalk(pair)
+    return question
+
+
+def need_few_rows(question, most):
+    """A checked question with at most so many rows together."""
+    if len(question[2]) + len(question[3]) > most:
+        raise TooGreat(most)
+    return question
 
 
 def turned_sign(sign):

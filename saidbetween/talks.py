@@ -3,7 +3,8 @@
 from saidbetween.errors import BadParameter, BadTalk, TooGreat
 from saidbetween.kinds import is_lot, is_row_in, is_sign_in, is_tuple, is_word
 from saidbetween.questions import is_so, need_question
-from saidbetween.walks import BRANCH, depth, END, ends, first_fault, is_branch, LABEL, WRONG
+from saidbetween.walks import BRANCH, depth, END, ends, ends_with_rows, first_fault, is_branch
+from saidbetween.walks import LABEL, parts_with_rows, way_of_both, WRONG
 
 MOST_TALKS = 400
 HANDS = ("yes", "no")
@@ -32,42 +33,7 @@ def said(question, talk, yes, no):
     for row, rows in ((yes, question[2]), (no, question[3])):
         if not is_row_in(rows, row):
             raise BadParameter(row)
-    out = []
-    while is_branch(talk):
-        hand, lot, within, without = talk
-        bit = 1 if (yes if hand == "yes" else no) in lot else 0
-        out.append((hand, bit))
-        talk = within if bit == 1 else without
-    return (tuple(out), talk)
-
-
-def rows_in(rows, lot):
-    """Those of the rows that are in the lot, ascending."""
-    return tuple(sorted(set(rows) & set(lot)))
-
-
-def rows_not_in(rows, lot):
-    """Those of the rows that are not in the lot, ascending."""
-    return tuple(sorted(set(rows) - set(lot)))
-
-
-def parts_with_rows(talk, yes, no):
-    """Both talks behind the first bit, each with the rows of both hands that go on with it."""
-    hand, lot, within, without = talk
-    if hand == "yes":
-        return ((within, rows_in(yes, lot), no), (without, rows_not_in(yes, lot), no))
-    return ((within, yes, rows_in(no, lot)), (without, yes, rows_not_in(no, lot)))
-
-
-def ends_with_rows(talk, yes, no):
-    """The triples (A, B, SIGN) of all ends of a checked talk."""
-    if not is_branch(talk):
-        return [(yes, no, talk)]
-    return [
-        end
-        for part, yes_there, no_there in parts_with_rows(talk, yes, no)
-        for end in ends_with_rows(part, yes_there, no_there)
-    ]
+    return way_of_both(talk, yes, no)
 
 
 def pairs_at(question, talk):

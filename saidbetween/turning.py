@@ -2,8 +2,8 @@
 
 from saidbetween.errors import BadParameter
 from saidbetween.formulas import first_wrong, formula_rows, sign_rows
-from saidbetween.talks import first_failing, parts_with_rows
-from saidbetween.walks import is_branch
+from saidbetween.talks import first_failing
+from saidbetween.walks import is_branch, parts_with_rows
 
 JOINT_OF_HAND = {"yes": "or", "no": "and"}
 

@@ -4,11 +4,19 @@ import itertools
 import unittest
 
 from saidbetween.engine import (
-    greatest_within, lot_of, lots_within, mask_of, mask_told, parting_signs, partings, rectangles,
-    sign_masks,
+    all_partings, all_rectangles, Field, greatest_within, growing, least_table, lot_of, lots_within,
+    mask_of, mask_told, NEVER, next_table, one_more, parting_signs, partings, question_field,
+    sign_masks, table_of, together, whole_talk,
 )
 from saidbetween.questions import parted
-from tests.helpers import Dice, EXAMPLE, small_questions, STRANGE, subsets, thrown_question
+from tests.helpers import (
+    Dice, EXAMPLE, EXAMPLE_TALK, small_questions, STRANGE, subsets, thrown_question,
+)
+
+
+def field_of(yes_count, no_count):
+    """Rectangles of so many rows without ends."""
+    return Field(("yes", "no"), tuple(range(yes_count)), tuple(range(no_count)), None)
 
 
 class MasksTest(unittest.TestCase):
@@ -38,16 +46,17 @@ class MasksTest(unittest.TestCase):
     def test_partings(self):
         for mask in range(64):
             found = partings(mask)
-            both = [(part, mask ^ part) for part in found]
-            self.assertTrue(all(part & mask == part and part and rest for part, rest in both))
+            self.assertTrue(all(part ^ rest == mask and not part & rest and part and rest
+                                for part, rest in found))
             wanted = {frozenset((part, mask ^ part)) for part in lots_within(mask)
                       if part not in (0, mask)}
             self.assertEqual(len(found), len(wanted))
-            self.assertEqual({frozenset(pair) for pair in both}, wanted)
+            self.assertEqual({frozenset(pair) for pair in found}, wanted)
+        self.assertEqual(all_partings(4), [partings(mask) for mask in range(16)])
 
     def test_rectangles(self):
         for yes_count, no_count in ((1, 1), (2, 3), (3, 1)):
-            found = rectangles(yes_count, no_count)
+            found = all_rectangles(yes_count, no_count)
             self.assertEqual(len(found), (2 ** yes_count - 1) * (2 ** no_count - 1))
             self.assertEqual(len(set(found)), len(found))
             for at, (yes, no) in enumerate(found):
@@ -80,16 +89,49 @@ class GreatestTest(unittest.TestCase):
         dice = Dice(52)
         for yes_count, no_count in ((1, 1), (2, 3), (3, 3), (4, 1)):
             for none in (0, 1):
-                places = rectangles(yes_count, no_count)
+                places = all_rectangles(yes_count, no_count)
+                field = field_of(yes_count, no_count)
                 told = {places[dice.below(len(places))]: none + dice.below(9) for _ in range(5)}
-                table = greatest_within(told, yes_count, no_count, none)
+                table = greatest_within(field, told, none)
                 for yes, no in itertools.product(range(2 ** yes_count), range(2 ** no_count)):
                     wanted = [number for (a, b), number in told.items()
                               if a & yes == a and b & no == b]
                     self.assertEqual(table[yes][no], max(wanted, default=none))
 
     def test_nothing_told(self):
-        self.assertEqual(greatest_within({}, 2, 1, 1), [[1, 1]] * 4)
+        self.assertEqual(greatest_within(field_of(2, 1), {}, 1), [[1, 1]] * 4)
+
+    def test_what_grows(self):
+        table = [[0, 0, 0, 0], [0, 1, 1, 2], [0, 3, 3, 3], [0, 3, 4, 4]]
+        self.assertEqual(growing(field_of(2, 2), table, 1), [(2, 1, 3), (3, 2, 1), (3, 2, 2), (4, 3, 2)])
+        self.assertEqual(growing(field_of(2, 2), table, 0)[:2], [(1, 1, 1), (1, 1, 2)])
+        self.assertEqual(growing(field_of(2, 2), table, 3), [(4, 3, 2)])
+
+
+class LeastTest(unittest.TestCase):
+
+    def test_example(self):
+        field = question_field(EXAMPLE)
+        bits = least_table(field, 0, one_more)
+        self.assertEqual(bits, [[0, 0, 0, 0], [0, 0, 0, 1], [0, 0, 0, 1], [0, 1, 1, 2]])
+        ends = least_table(field, 1, together)
+        self.assertEqual(ends, [[0, 0, 0, 0], [0, 1, 1, 2], [0, 1, 1, 2], [0, 2, 2, 4]])
+        for table, join in ((bits, one_more), (ends, together)):
+            self.assertEqual(whole_talk(field, table, join), EXAMPLE_TALK)
+
+    def test_bit_by_bit(self):
+        field = question_field(EXAMPLE)
+        table = table_of(field, NEVER)
+        for wanted in (NEVER, NEVER, 4, 4):
+            table = next_table(field, table, 1, together)
+            self.assertEqual(table[-1][-1], wanted)
+
+    def test_where_no_talk_is(self):
+        field = question_field((2, ((0, 1), (1, 0)), (1, 2), (0, 3)))
+        for at_end, join in ((0, one_more), (1, together)):
+            table = least_table(field, at_end, join)
+            self.assertEqual([table[2][1], table[2][2], table[3][1], table[3][3]], [NEVER] * 4)
+            self.assertEqual(table[1][1], at_end)
 
 
 if __name__ == "__main__":

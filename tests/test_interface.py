@@ -35,6 +35,26 @@ INTERFACE = {
         "lean_formula(question, formula)",
     ],
     "engine": [],
+    "depths": [
+        "least_bits(question)", "is_least_bits(question, value)", "is_book(question, bits, value)",
+        "talked(question)",
+    ],
+    "sizes": [
+        "least_leaves(question)", "is_least_leaves(question, value)",
+        "is_size_book(question, leaves, value)",
+    ],
+    "few": [
+        "best_of(question, bits)", "is_best_of(question, bits, value)", "leaves_by_bits(question)",
+    ],
+    "layers": [
+        "layers_from(question, talk, hand)", "fewest_by_layers(question, layers, hand)",
+        "is_fewest_by_layers(question, layers, hand, value)",
+        "is_layer_book(question, layers, hand, leaves, value)",
+    ],
+    "rising": [
+        "is_rising(many, values)", "kernel_of(question)", "led_talk(question, talk)",
+        "rising_formula(many, values)", "falling_formula(many, values)",
+    ],
     "asks": [
         "need_tree(many, tree)", "asked(many, tree, row)", "asks_of(many, tree)",
         "is_tree_for(many, values, value)", "least_asks(many, values)",
@@ -90,7 +110,9 @@ class FormTest(unittest.TestCase):
             imported = set()
             for node in ast.walk(ast.parse(text)):
                 self.assertNotIsInstance(node, ast.Import, name)
-                if isinstance(node, ast.ImportFrom):
+                if isinstance(node, ast.ImportFrom) and node.module == "math":
+                    imported |= {alias.name for alias in node.names}
+                elif isinstance(node, ast.ImportFrom):
                     self.assertTrue(node.module.startswith("saidbetween."), name)
                     body = tree_of(node.module.split(".")[1]).body
                     defined = {one.name for one in body if hasattr(one, "name")}
