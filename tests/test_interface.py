@@ -55,6 +55,21 @@ INTERFACE = {
         "is_rising(many, values)", "kernel_of(question)", "led_talk(question, talk)",
         "rising_formula(many, values)", "falling_formula(many, values)",
     ],
+    "bounds": [
+        "neighbours(question)", "neighbour_bound(question)", "best_neighbours(question)",
+    ],
+    "weights": ["heaviest(question, weights)", "weight_bound(question, weights)"],
+    "ranks": ["rank_modulo(prime, matrix)", "rank_bound(question, prime, matrix)"],
+    "hands": [
+        "need_grid(grid)", "need_speech(grid, speech)", "heard(grid, speech, row, column)",
+        "cells_at(grid, speech)", "speech_bits(grid, speech)", "is_speech(grid, value)",
+        "turned_grid(grid)", "bare_grid(grid)",
+    ],
+    "saying": [
+        "least_said(grid)", "is_least_said(grid, value)", "is_grid_book(grid, bits, value)",
+        "grid_counts(grid)", "greatest_fool(grid, number)", "is_fool(grid, number, value)",
+        "grid_rank(grid, number, prime)", "said_bound(grid, prime)",
+    ],
     "asks": [
         "need_tree(many, tree)", "asked(many, tree, row)", "asks_of(many, tree)",
         "is_tree_for(many, values, value)", "least_asks(many, values)",
