@@ -117,12 +117,18 @@ def asks_behind(least, cube, place):
     return max(least[low], least[high])
 
 
-def least_asks(many, values):
-    """The fewest asks for a table, a tree with so many, and a book that fewer will not do."""
+def need_small_table(many, values):
+    """The values of a table of few enough bits."""
     need_many(many)
     need_values(many, values)
     if many > MOST_ASKED_BITS:
         raise TooGreat(MOST_ASKED_BITS)
+    return values
+
+
+def least_asks(many, values):
+    """The fewest asks for a table, a tree with so many, and a book that fewer will not do."""
+    need_small_table(many, values)
     least = least_in_cubes(many, values)
     whole = (FREE,) * many
     return (least[whole], tree_by(least, values, whole), book_by(least, whole))

@@ -1,8 +1,7 @@
 """Neighbours: a bound for the number of leaves, whatever the signs."""
 
-from math import gcd
-
-from saidbetween.engine import lot_of
+from saidbetween.engine import all_lots
+from saidbetween.fractions import reduced
 from saidbetween.questions import MOST_ROWS, need_few_rows, need_question
 
 
@@ -16,12 +15,6 @@ def neighbours(question):
     """The pairs (YES row, NO row) that are neighbours, ascending."""
     _, _, yes, no = need_question(question)
     return tuple([(row, other) for row in yes for other in no if are_neighbours(row, other)])
-
-
-def reduced(number, divisor):
-    """A FRACTION in least terms."""
-    common = gcd(number, divisor)
-    return (number // common, divisor // common)
 
 
 def neighbour_bound(question):
@@ -46,8 +39,3 @@ def best_neighbours(question):
                 best = fraction
                 lots = (some, others)
     return (reduced(best[0], best[1]),) + lots
-
-
-def all_lots(rows):
-    """All lots of at least one of these rows."""
-    return [lot_of(rows, mask) for mask in range(1, 1 << len(rows))]

@@ -24,6 +24,11 @@ def lot_of(rows, mask):
     return tuple([row for place, row in enumerate(rows) if (mask >> place) & 1])
 
 
+def all_lots(rows):
+    """All lots of at least one of these rows."""
+    return [lot_of(rows, mask) for mask in range(1, 1 << len(rows))]
+
+
 def mask_told(rows, thing):
     """The mask of a lot of at least one of these rows, None for what is none."""
     if not is_lot(MOST_BITS, thing) or len(thing) == 0 or len(set(thing) - set(rows)) > 0:

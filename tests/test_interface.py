@@ -70,11 +70,27 @@ INTERFACE = {
         "grid_counts(grid)", "greatest_fool(grid, number)", "is_fool(grid, number, value)",
         "grid_rank(grid, number, prime)", "said_bound(grid, prime)",
     ],
+    "covers": [
+        "greatest_rectangles(grid, number)", "is_cover(grid, number, value)",
+        "least_cover(grid, number)", "is_cover_paper(grid, number, count, value)",
+        "is_least_cover(grid, number, value)",
+    ],
+    "partings": [
+        "is_parting(grid, number, value)", "least_parting(grid, number)",
+        "is_parting_paper(grid, number, count, value)", "is_least_parting(grid, number, value)",
+    ],
+    "both": ["by_both_covers(grid, zeros, ones)", "both_bound(zeros, ones)"],
     "asks": [
         "need_tree(many, tree)", "asked(many, tree, row)", "asks_of(many, tree)",
         "is_tree_for(many, values, value)", "least_asks(many, values)",
         "is_cube_book(many, values, asks, value)",
     ],
+    "certificates": [
+        "certificate(many, values, row)", "turning_bits(many, values, row)",
+        "blocks(many, values, row)", "is_blocks(many, values, row, value)", "sums(many, values)",
+        "most_of(many, values)", "certificate_tree(many, values)", "formula_of_asks(many, tree)",
+    ],
+    "fractions": [],
 }
 
 
@@ -125,7 +141,7 @@ class FormTest(unittest.TestCase):
             imported = set()
             for node in ast.walk(ast.parse(text)):
                 self.assertNotIsInstance(node, ast.Import, name)
-                if isinstance(node, ast.ImportFrom) and node.module == "math":
+                if isinstance(node, ast.ImportFrom) and node.module in ("math", "itertools"):
                     imported |= {alias.name for alias in node.names}
                 elif isinstance(node, ast.ImportFrom):
                     self.assertTrue(node.module.startswith("saidbetween."), name)
