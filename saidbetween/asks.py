@@ -166,11 +166,16 @@ def is_cube_book(many, values, asks, value):
     need_values(many, values)
     if type(asks) is not int or asks < 0:
         raise BadParameter(asks)
+    return asks in shown_asks(many, values, value)
+
+
+def shown_asks(many, values, value):
+    """The ASKS that a value shows, as a book of cubes of a checked table; none if it is no book."""
     if not is_set_of_entries(many, value, is_entry):
-        return False
-    if asks == 0:
-        return len(value) == 0
-    return any([entry[0] == asks - 1 for entry in value]) and all_stand(many, values, value)
+        return []
+    if len(value) == 0:
+        return [0]
+    return sorted({asks + 1 for asks, _ in value}) if all_stand(many, values, value) else []
 
 
 def is_entry(many, thing):

@@ -114,7 +114,15 @@ def need_values(many, values):
     """The values of a table of so many bits."""
     if not is_tuple(values, 1 << many):
         raise BadTable(())
+    wrong = first_wrong_value(values)
+    if wrong is not None:
+        raise BadTable((wrong,))
+    return values
+
+
+def first_wrong_value(values):
+    """The place of the first thing of a tuple that is not 0 or 1, None if there is none."""
     for place, value in enumerate(values):
         if not is_integer(value, 0, 1):
-            raise BadTable((place,))
-    return values
+            return place
+    return None

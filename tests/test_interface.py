@@ -91,6 +91,23 @@ INTERFACE = {
         "most_of(many, values)", "certificate_tree(many, values)", "formula_of_asks(many, tree)",
     ],
     "fractions": [],
+    "exchange": [],
+    "chances": [
+        "best_speech(grid, bits, odds)", "least_chance(grid, bits, mix)", "worth(grid, bits)",
+        "is_worth(grid, bits, value)",
+    ],
+    "inside": [
+        "put_in(outer, inner)", "put_formula(many, formula, inner_many, inner)",
+        "put_tree(many, tree, inner_many, inner)",
+    ],
+    "products": [
+        "put_paper(outer, inner)", "is_put_paper(outer, inner, value)",
+        "long_row(outer, inner, book, inner_book, tree)",
+    ],
+    "sessions": [
+        "begun(question)", "need_state(state)", "session_step(state, deed)",
+        "played(question, deeds)",
+    ],
 }
 
 
