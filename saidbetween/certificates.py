@@ -183,7 +183,7 @@ def settled(tree):
     if not is_branch(tree):
         return tree
     end = settled(tree[2])
-    return end if end is not None and end == settled(tree[3]) else None
+    return end if end == settled(tree[3]) else None
 
 
 def formula_by(tree):

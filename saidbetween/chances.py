@@ -144,17 +144,15 @@ def least_chance(grid, bits, mix):
     need_chance_bits(bits)
     if not is_mix(grid, bits, mix):
         raise BadParameter(mix)
-    weights = [weight for weight, _ in mix]
-    divisor = common_divisor(weights)
-    numbers = over_divisor(weights, divisor)
-    chances = [
-        (sum([
-            number for number, (_, speech) in zip(numbers, mix) if is_right(grid, speech, cell)
-        ]), cell)
-        for cell in cells_of_grid(grid)
-    ]
-    number, cell = min(chances)
-    return (reduced(number, divisor), cell)
+    divisor = common_divisor([weight for weight, _ in mix])
+    least, cell = min([(chance_at(grid, mix, divisor, one), one) for one in cells_of_grid(grid)])
+    return (reduced(least, divisor), cell)
+
+
+def chance_at(grid, mix, divisor, cell):
+    """The chance of being right at a cell, over a common divisor of the weights."""
+    right = [weight for weight, speech in mix if is_right(grid, speech, cell)]
+    return sum(over_divisor(right, divisor))
 
 
 def worth(grid, bits):

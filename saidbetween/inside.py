@@ -3,7 +3,7 @@
 from saidbetween.asks import MOST_TREES, need_tree
 from saidbetween.errors import BadTable, TooGreat
 from saidbetween.formulas import MOST_THINGS, need_formula, negation
-from saidbetween.kinds import first_wrong_value, is_many, is_tuple, MOST_BITS, need_many
+from saidbetween.kinds import first_wrong_value, is_many, is_tuple, MOST_BITS
 from saidbetween.questions import all_signs
 from saidbetween.walks import depth, ends, is_branch, MOST_DEPTH
 
@@ -55,9 +55,7 @@ def block_of(row, place, inner_many):
 
 def put_formula(many, formula, inner_many, inner):
     """The formula with the inner one, or its negation, in the place of each sign."""
-    need_many(many)
     need_formula(any_question(many), formula)
-    need_many(inner_many)
     need_formula(any_question(inner_many), inner)
     need_together(many, inner_many)
     # As many "or" and "and" as signs, but one.
@@ -69,7 +67,7 @@ def put_formula(many, formula, inner_many, inner):
 
 
 def any_question(many):
-    """A question with all signs, so that formulas with these are checked."""
+    """A question with all signs of so many bits, which are checked: formulas are told of it."""
     return (many, all_signs(many), (0,), (1,))
 
 
@@ -94,9 +92,7 @@ def moved(formula, places):
 
 def put_tree(many, tree, inner_many, inner):
     """The tree that asks the inner one of a block for each bit that is asked."""
-    need_many(many)
     need_tree(many, tree)
-    need_many(inner_many)
     need_tree(inner_many, inner)
     need_together(many, inner_many)
     bare = asked_once(tree, (None,) * many)

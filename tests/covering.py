@@ -325,6 +325,26 @@ class Covering:
                       (TouchyText("fool"), good), ("fool", ((0, 0), (0, 1)))):
             self.assertIs(judge(GRID, 0, 2, value), False)
 
+    def test_cells_within_and_without(self):
+        judge = type(self).judge_paper
+        for grid, number in ((GRID, 0), (GRID, 1), (((1, 0, 1), (0, 1, 1)), 1), (((1,), (0,)), 1)):
+            for cell in itertools.product(range(-3, 6), repeat=2):
+                wanted = cell in cells_with(grid, number)
+                self.assertIs(judge(grid, number, 1, ("fool", (cell,))), wanted)
+                if not wanted:
+                    for papers in ((), (("fool", (min(cells_with(grid, number)),)),)):
+                        self.assertIs(judge(grid, number, 2, ("cell", cell, papers)), False)
+
+    def test_no_cells_behind_nought(self):
+        """A paper by a cell is for one rectangle at least."""
+        for grid in (((1, 0),), GRID):
+            paper = ("cell", (0, 1), (("fool", ()),))
+            self.assertIs(type(self).judge_paper(grid, grid[0][1], 1, paper), False)
+            self.assertIs(type(self).judge_paper(grid, grid[0][1], 1, ("cell", (0, 1), (paper,))), False)
+        paper = ("cell", (1, 0), (("cell", (0, 1), (("fool", ()),)),))
+        self.assertIs(type(self).judge_paper(GRID, 1, 2, paper), False)
+        self.assertIs(type(self).judge_paper(GRID, 1, 1, ("fool", ())), False)
+
     def test_triples_changed(self):
         dice = Dice(165)
         judge = type(self).judge_least

@@ -305,6 +305,7 @@ class PutTreeTest(Case):
         for place in range(8):
             deep = ("ask", place, deep, deep)
         self.refused(TooGreat, {"most": 600}, put_tree, 8, deep, 1, wide_one(300))
+        self.assertEqual(len(things(put_tree(8, deep, 1, one))), 511)
 
     @staticmethod
     def tree_of(zeros, ends):
@@ -324,6 +325,22 @@ class PutTreeTest(Case):
                     self.assertEqual(asks_of(2, put_tree(2, tree, 1, inner)), 2 * asks)
                 else:
                     self.refused(TooGreat, {"most": 60}, put_tree, 2, tree, 1, inner)
+            # One end 1 behind some asks, the ends 0 behind at most one more.
+            for asks, good in ((29, True), (30, False)):
+                inner = long_one(asks - 1, side, ("ask", 0, 1, ("ask", 0, 0, 0)), 0)
+                if good:
+                    self.assertEqual(asks_of(2, put_tree(2, tree, 1, inner)), 2 * asks + 1)
+                else:
+                    self.refused(TooGreat, {"most": 60}, put_tree, 2, tree, 1, inner)
+            # One end far above the others goes on with the second ask.
+            for end in (0, 1):
+                tree = ("ask", 0, 1, other) if end == 0 else ("ask", 0, other, 1)
+                for asks, good in ((59, True), (60, False)):
+                    inner = ("ask", 0, end, long_one(asks - 1, side, 1 - end, 1 - end))
+                    if good:
+                        self.assertEqual(asks_of(2, put_tree(2, tree, 1, inner)), asks + 1)
+                    else:
+                        self.refused(TooGreat, {"most": 60}, put_tree, 2, tree, 1, inner)
             inner = long_one(40, side, 0, 1)
             self.assertEqual(asks_of(2, put_tree(2, ("ask", 0, 1, ("ask", 0, 1, 0)), 1, inner)), 40)
         both = ("ask", 0, ("ask", 1, 1, 0), ("ask", 1, 0, 1))
