@@ -1,11 +1,10 @@
 """Covers of the cells that have an integer: greatest rectangles, least covers, papers."""
 
 from saidbetween.engine import all_lots
-from saidbetween.errors import TooGreat
 from saidbetween.hands import columns_of_grid, need_grid, rows_of_grid
 from saidbetween.kinds import is_tuple
 from saidbetween.papers import Board, is_paper, is_rectangle, least_taken, mask_of_rectangle
-from saidbetween.papers import need_paper_count, shows_fewest, whole_mask
+from saidbetween.papers import need_few_lines, need_paper_count, shows_fewest, whole_mask
 from saidbetween.saying import need_number
 
 MOST_COVERED = 5
@@ -54,32 +53,27 @@ def is_cover(grid, number, value):
 
 
 def cover_board(grid, number):
-    """The board of a grid and a number that are checked, with the greatest RECTANGLES."""
+    """The board of covers: the greatest RECTANGLES may be taken, whatever is left."""
     return Board(grid, number, greatest_rectangles(grid, number), False)
 
 
 def least_cover(grid, number):
     """The fewest things of a cover, such a cover, and a paper that fewer are not enough."""
-    need_grid(grid)
-    need_number(number)
-    if max(len(grid), len(grid[0])) > MOST_COVERED:
-        raise TooGreat(MOST_COVERED)
-    return least_taken(cover_board(grid, number))
+    board = cover_board(grid, number)
+    need_few_lines(board, MOST_COVERED)
+    return least_taken(board)
 
 
 def is_cover_paper(grid, number, count, value):
     """Whether a value is a PAPER that no cover has fewer than so many things."""
-    need_grid(grid)
-    need_number(number)
-    need_paper_count(count)
     board = cover_board(grid, number)
+    need_paper_count(count)
     return is_paper(board, board.whole, count - 1, value)
 
 
 def is_least_cover(grid, number, value):
     """Whether a value is a triple as `least_cover` tells it."""
-    need_grid(grid)
-    need_number(number)
+    board = cover_board(grid, number)
     if not is_tuple(value, 3) or not is_cover(grid, number, value[1]):
         return False
-    return shows_fewest(cover_board(grid, number), value)
+    return shows_fewest(board, value)

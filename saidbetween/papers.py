@@ -4,7 +4,7 @@ The cell (ROW, COLUMN) is the bit ROW * width + COLUMN of a mask. A paper is tol
 that are left: those on which no rectangle lies yet.
 """
 
-from saidbetween.errors import BadParameter
+from saidbetween.errors import BadParameter, TooGreat
 from saidbetween.kinds import is_integer, is_set_of_numbers, is_tuple, is_word
 from saidbetween.saying import cells_with
 
@@ -23,6 +23,13 @@ class Board:
         self.whole = whole_mask(grid, number)
         self.rectangles = [(one, mask_of_rectangle(self.width, one)) for one in rectangles]
         self.exact = exact
+
+
+def need_few_lines(board, most):
+    """A board of at most so many rows and columns."""
+    if max(board.height, board.width) > most:
+        raise TooGreat(most)
+    return board
 
 
 def bit_of(width, cell):
